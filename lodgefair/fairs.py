@@ -1,6 +1,6 @@
 """Fairs: what guests and houses say of each other, and who fits whom."""
 
-from lodgefair.errors import BadFair
+from lodgefair.errors import BadFair, BadOrder
 
 MOST_ON_A_SIDE = 5
 MOST_ROOMS = 5
@@ -18,6 +18,10 @@ def are_unlike_numbers_below(things, end):
         if not is_number_below(thing, end) or thing in things[:place]:
             return False
     return True
+
+
+def has_each_number_below(things, end):
+    return are_unlike_numbers_below(things, end) and len(things) == end
 
 
 def is_side(side):
@@ -62,3 +66,10 @@ def choices(fair, guest):
     if not is_number_below(guest, len(wishes)):
         return []
     return [house for house in wishes[guest] if fits(fair, guest, house)]
+
+
+def checked_order(fair, order):
+    wishes = fair[0]
+    if not isinstance(order, list) or not has_each_number_below(tuple(order), len(wishes)):
+        raise BadOrder("no list of all guests, each once")
+    return order

@@ -46,12 +46,15 @@ def guests_in(lodging, house):
     return [guest for guest, had in enumerate(lodging) if had == house]
 
 
-def would_take_in(fair, lodging, house, guest):
+def has_free_room(fair, lodging, house):
     rooms = fair[1][house][0]
-    lodged = guests_in(lodging, house)
-    if len(lodged) < rooms:
+    return lodging.count(house) < rooms
+
+
+def would_take_in(fair, lodging, house, guest):
+    if has_free_room(fair, lodging, house):
         return True
-    return any([house_likes_better(fair, house, guest, other) for other in lodged])
+    return any([house_likes_better(fair, house, guest, other) for other in guests_in(lodging, house)])
 
 
 def is_spoiler(fair, lodging, guest, house):

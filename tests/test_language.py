@@ -38,6 +38,14 @@ NEVER_WORDS = re.compile(
     r"NamedTuple|TypedDict|TYPE_CHECKING|abstractmethod)\b|dataclass|overload|contextmanager"
 )
 
+KEYWORDS = {
+    ("sorted", "key"), ("sorted", "reverse"), ("min", "key"), ("min", "default"), ("max", "key"), ("max", "default"),
+    ("sum", "start"), ("enumerate", "start"), ("zip", "strict"),
+}
+WALKED = {"zip", "enumerate", "reversed", "range", "items", "keys", "values"}
+WALKERS = {"list", "tuple", "dict", "sorted", "sum", "any", "all", "enumerate", "zip", "min", "max"}
+CALLED = set("len range enumerate zip min max sum abs sorted reversed isinstance ord repr any all divmod".split())
+
 
 def sources():
     return sorted(path for path in PACKAGE.iterdir() if path.name != "__pycache__")
@@ -194,6 +202,69 @@ class TheLanguage(unittest.TestCase):
                 self.assertIn(node.func.attr, METHODS | own, where)
         for where, node in self.each_node(ast.Attribute):
             self.assertNotIn(node.attr, NEVER_NAMES, where)
+
+    def test_the_words_and_texts_inside(self):
+        # A text at a def's head would be a statement that is no call.
+        for where, node in self.each_node(ast.Constant):
+            if isinstance(node.value, str):
+                self.assertNotIn("%", node.value, where)
+                self.assertRegex(node.value, r"\A[ -~\n\t]*\Z", where)
+        for where, node in self.each_node(ast.BinOp):
+            if isinstance(node.op, ast.Pow):
+                self.assertIsInstance(node.right, ast.Constant, where)
+
+    def test_nothing_is_annotated(self):
+        for where, node in self.each_node((ast.FunctionDef, ast.arg)):
+            self.assertIsNone(node.returns if isinstance(node, ast.FunctionDef) else node.annotation, where)
+
+    def test_the_keywords(self):
+        for where, node in self.each_node(ast.Call):
+            called = node.func.id if isinstance(node.func, ast.Name) else None
+            for keyword in node.keywords:
+                self.assertIn((called, keyword.arg), KEYWORDS, where)
+                if keyword.arg == "key":
+                    self.assertIsInstance(keyword.value, (ast.Lambda, ast.Name), where)
+
+    def test_no_sets(self):
+        for where, node in self.each_node((ast.Set, ast.Name)):
+            self.assertFalse(isinstance(node, ast.Set) or node.id in ("set", "frozenset"), where)
+
+    def test_what_is_walked_at_once(self):
+        for name, tree in self.trees.items():
+            spots = []
+            for node in ast.walk(tree):
+                if isinstance(node, (ast.For, ast.comprehension)):
+                    spots.append(node.iter)
+                elif isinstance(node, ast.Call) and isinstance(node.func, ast.Name) and node.func.id in WALKERS:
+                    spots.extend(node.args[:1])
+            for node in ast.walk(tree):
+                if isinstance(node, ast.Call) and getattr(node.func, "id", getattr(node.func, "attr", "")) in WALKED:
+                    self.assertIn(node, spots, f"{name}:{node.lineno}")
+
+    def test_the_errors(self):
+        own = top_names(self.trees["errors"])
+        for where, node in self.each_node(ast.ExceptHandler):
+            self.assertIsInstance(node.type, ast.Name, where)
+            self.assertIn(node.type.id, own, where)
+        for where, node in self.each_node(ast.Raise):
+            self.assertIsInstance(node.exc, ast.Call, where)
+            self.assertIn(node.exc.func.id, own, where)
+            self.assertTrue(node.cause is None or node.cause.value is None, where)
+
+    def test_methods_are_called_where_they_stand(self):
+        called = [node.func for _, node in self.each_node(ast.Call)]
+        for where, node in self.each_node(ast.Attribute):
+            self.assertTrue(node in called or node.attr not in METHODS, where)
+
+    def test_functions_of_pythons_own_are_called_where_they_stand(self):
+        called = [node.func for _, node in self.each_node(ast.Call)]
+        for where, node in self.each_node(ast.Name):
+            if node.id in CALLED:
+                self.assertIn(node, called, where)
+
+    def test_two_lambdas_do_not_share_a_line(self):
+        lines = [where for where, _ in self.each_node(ast.Lambda)]
+        self.assertEqual(len(lines), len(set(lines)))
 
 
 if __name__ == "__main__":
