@@ -1,4 +1,4 @@
-"""Holds the package's files to the rules of ../shared/LANGUAGE.md that a walk over their syntax can see."""
+"""Holds the package's files to many of the rules of ../shared/LANGUAGE.md: those that a short walk over their syntax can see."""
 
 import ast
 import builtins
@@ -203,8 +203,7 @@ class TheLanguage(unittest.TestCase):
         for where, node in self.each_node(ast.Attribute):
             self.assertNotIn(node.attr, NEVER_NAMES, where)
 
-    def test_the_words_and_texts_inside(self):
-        # A text at a def's head would be a statement that is no call.
+    def test_the_texts_and_powers(self):
         for where, node in self.each_node(ast.Constant):
             if isinstance(node.value, str):
                 self.assertNotIn("%", node.value, where)
